@@ -1,0 +1,1 @@
+"""Coilkind: kinds told in rings."""
