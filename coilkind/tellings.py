@@ -38,6 +38,18 @@ def heads_of(T):
     return {name: head for name, head in T}
 
 
+def rows_of(T):
+    """The names of the rows that the names of a telling stand for, by these names."""
+    heads = heads_of(T)
+    rows = {}
+    for name in heads:
+        row = name
+        while heads[row][0] == "as":
+            row = heads[row][1]
+        rows[name] = row
+    return rows
+
+
 def is_row(thing):
     """Whether thing is made as a row; whether the names in its head have rows isn't asked."""
     return isinstance(thing, tuple) and len(thing) == 2 and is_name(thing[0]) and is_head(thing[1])
@@ -76,6 +88,13 @@ def names_in(head):
     if head[0] in WORDED:
         return [x for word, x in head[1]]
     return list(head[1:])
+
+
+def head_with(head, names):
+    """A head with other names in the places of its own, as many of them and in its order."""
+    if head[0] in WORDED:
+        return (head[0], tuple(zip([word for word, x in head[1]], names)))
+    return tuple([head[0]] + names)
 
 
 def has_rows(heads, head):

@@ -16,6 +16,11 @@ NamedTuple TypedDict TYPE_CHECKING abstractmethod""".split()
 NODES = (ast.GeneratorExp, ast.NamedExpr, ast.With, ast.Match, ast.Global, ast.Nonlocal, ast.Yield, ast.YieldFrom,
          ast.AsyncFunctionDef, ast.Await, ast.Div, ast.Import, ast.AnnAssign)
 
+METHODS = """append clear copy count endswith extend find get index insert isalnum isalpha isdigit islower isspace
+isupper items join keys ljust lower lstrip partition pop remove replace reverse rfind rjust rpartition rsplit rstrip
+setdefault split splitlines startswith strip update upper values zfill bit_length sort add discard
+__init__""".split()
+
 
 class Form(unittest.TestCase):
     def trees(self):
@@ -72,3 +77,46 @@ class Form(unittest.TestCase):
                     self.assertIsInstance(node.ctx, ast.Load, (name, node.lineno))
                 if isinstance(node, ast.arg):
                     self.assertFalse(hasattr(builtins, node.arg), (name, node.lineno))
+
+    def test_no_local_is_called_like_a_class_or_an_import(self):
+        for name, tree in self.trees():
+            drawn = [row.name for row in tree.body if isinstance(row, ast.ClassDef)]
+            for row in tree.body:
+                if isinstance(row, ast.ImportFrom):
+                    drawn += [one.name for one in row.names]
+            for node in ast.walk(tree):
+                if isinstance(node, ast.Name) and isinstance(node.ctx, ast.Store):
+                    self.assertNotIn(node.id, drawn, (name, node.lineno))
+                if isinstance(node, ast.arg):
+                    self.assertNotIn(node.arg, drawn, (name, node.lineno))
+
+    def test_attributes_are_known_ones(self):
+        methods, values = set(), set()
+        for name, tree in self.trees():
+            for node in ast.walk(tree):
+                if isinstance(node, ast.ClassDef):
+                    methods |= {row.name for row in node.body if isinstance(row, ast.FunctionDef)}
+                if isinstance(node, ast.Attribute) and isinstance(node.ctx, ast.Store):
+                    values.add(node.attr)
+        self.assertFalse(methods & values)
+        for name, tree in self.trees():
+            for node in ast.walk(tree):
+                if isinstance(node, ast.Attribute):
+                    self.assertIn(node.attr, methods | values | set(METHODS), (name, node.lineno))
+
+    def test_files_draw_from_none_that_draws_from_them(self):
+        drawn = {}
+        for name, tree in self.trees():
+            rows = [row for row in tree.body if isinstance(row, ast.ImportFrom)]
+            drawn[name[:-3]] = {row.module.split(".")[1] for row in rows}
+            for row in rows:
+                source = ast.parse((PACKAGE / (row.module.split(".")[1] + ".py")).read_text())
+                own = [node.name for node in source.body if isinstance(node, (ast.FunctionDef, ast.ClassDef))]
+                own += [node.targets[0].id for node in source.body if isinstance(node, ast.Assign)]
+                for one in row.names:
+                    self.assertIn(one.name, own, (name, row.module))
+        while drawn:
+            free = [name for name in drawn if not drawn[name] & set(drawn)]
+            self.assertTrue(free, drawn)
+            for name in free:
+                del drawn[name]
