@@ -17,7 +17,8 @@ class TooMany(CoilError):
     """What is asked for goes beyond a bound; many tells by what number."""
 
     def __init__(self, many):
-        CoilError.__init__(self, f"too many: {many}")
+        # The number isn't written out, as it may have more digits than Python writes.
+        CoilError.__init__(self, "there are too many")
         self.many = many
 
 

@@ -2,7 +2,7 @@
 
 from coilkind.alike import class_numbers
 from coilkind.names import LETTERS
-from coilkind.roads import Net, reached
+from coilkind.roads import Net, head_by, reached
 from coilkind.tellings import WORDED, head_with, names_in
 
 
@@ -45,6 +45,23 @@ def put_together(sort, kinds):
         rows.extend(renamed(T, start))
     head = (sort, tuple(zip([word for word, kind in kinds], firsts))) if worded else tuple([sort] + firsts)
     return least(tuple([(name_of(0), head)] + rows), name_of(0))
+
+
+def least_unfolded(first, unfold):
+    """The least telling of the kind of a key: unfold tells of a key the sort of its head and, by the steps of that in
+    their order, the keys behind it."""
+    called = {first: name_of(0)}
+    keys = [first]
+    rows = []
+    while len(rows) < len(keys):
+        key = keys[len(rows)]
+        sort, moves = unfold(key)
+        for end in moves.values():
+            if end not in called:
+                called[end] = name_of(len(keys))
+                keys.append(end)
+        rows.append((called[key], head_by(sort, {step: called[end] for step, end in moves.items()})))
+    return least(tuple(rows), name_of(0))
 
 
 def renamed(T, start):

@@ -87,6 +87,13 @@ def steps_in(head):
     return []
 
 
+def head_by(sort, names):
+    """The head of a sort, by its steps in their order the names to which they lead."""
+    if sort in STEP_WORDS:
+        return (sort, tuple([(step[1], x) for step, x in names.items()]))
+    return tuple([sort] + list(names.values()))
+
+
 def moves_in(head, rows):
     """The rows to which the steps of a head lead, by these steps, in their order."""
     return {step: rows[x] for step, x in zip(steps_in(head), names_in(head))}

@@ -1,6 +1,6 @@
 """Tellings: rows of a name and a head, that name one another."""
 
-from coilkind.names import is_name
+from coilkind.names import are_rising, is_name
 
 MOST_ROWS = 200
 # How many names of rows stand behind the first word of a head without words.
@@ -74,13 +74,12 @@ def is_pairs(thing):
     """Whether thing is made as the parts of a box or the cases of a pick."""
     if not isinstance(thing, tuple) or not all([is_pair(pair) for pair in thing]):
         return False
-    words = [word for word, x in thing]
-    return all([ahead < behind for ahead, behind in zip(words, words[1:])])
+    return are_rising([word for word, x in thing])
 
 
 def is_pair(thing):
-    """Whether thing is a tuple of a word and a name."""
-    return isinstance(thing, tuple) and len(thing) == 2 and is_name(thing[0]) and is_name(thing[1])
+    """Whether thing is a tuple of a word, whatever it be, and a name."""
+    return isinstance(thing, tuple) and len(thing) == 2 and is_name(thing[1])
 
 
 def names_in(head):

@@ -200,3 +200,97 @@ def within_by_rounds(T, S):
         if fewer == left:
             return left
         left = fewer
+
+
+def pieces(thing):
+    """How many pieces a thing has."""
+    return 1 + (sum(pieces(part) for word, part in thing[1]) if thing[0] == "box" else pieces(thing[2]))
+
+
+def is_of(T, x, thing):
+    """Whether a thing is of a kind."""
+    head = dict(T)[row(T, x)]
+    if head[0] in ("none", "way"):
+        return False
+    if head[0] == "all":
+        return True
+    if head[0] != thing[0]:
+        return False
+    if head[0] == "box":
+        parts = dict(thing[1])
+        return all(word in parts and is_of(T, y, parts[word]) for word, y in head[1])
+    return thing[1] in dict(head[1]) and is_of(T, dict(head[1])[thing[1]], thing[2])
+
+
+@functools.lru_cache(maxsize=None)
+def things(words, n):
+    """All things of n pieces with words of that tuple, made one by one."""
+    if n == 0:
+        return ()
+    found = [("pick", word, part) for word in words for part in things(words, n - 1)]
+    return tuple(found + [("box", parts) for parts in parts_of(tuple(sorted(words)), tuple(words), n - 1)])
+
+
+def parts_of(left, words, n):
+    """All parts of boxes, n pieces together, at some of the words that are left."""
+    if not left:
+        return [()] if n == 0 else []
+    found = parts_of(left[1:], words, n)
+    for many in range(1, n + 1):
+        rest = parts_of(left[1:], words, n - many)
+        found = found + [((left[0], part),) + behind for part in things(words, many) for behind in rest]
+    return found
+
+
+def first_thing(words, most, is_such):
+    """The fewest pieces, at most so many, of a thing that is such a one, or None."""
+    for n in range(1, most + 1):
+        if any(is_such(thing) for thing in things(words, n)):
+            return n
+    return None
+
+
+def rows_with_things(T):
+    """The names of the rows whose kinds have things, round by round."""
+    found = set()
+    while True:
+        more = {name for name, head in T if has_thing(found, head)}
+        if more == found:
+            return found
+        found = more
+
+
+def has_thing(found, head):
+    """Whether a head has a thing where just the found rows are known to have some."""
+    if head[0] == "as":
+        return head[1] in found
+    if head[0] == "box":
+        return all(x in found for word, x in head[1])
+    if head[0] == "pick":
+        return any(x in found for word, x in head[1])
+    return head[0] == "all"
+
+
+def pruned(T):
+    """A telling with the same names, whose kinds are those of T pruned."""
+    found = rows_with_things(T)
+    rows = []
+    for name, head in T:
+        if head[0] == "pick":
+            head = ("pick", tuple((word, x) for word, x in head[1] if x in found))
+        rows.append((name, head if name in found or head[0] == "as" else ("none",)))
+    return tuple(rows)
+
+
+def is_cut(T, x, n, side, S):
+    """Whether S tells the cut of x at n, with all at the ends of that side: road by road."""
+    first = S[0][0]
+    for road in roads_up_to(T, x, n):
+        other = end(S, first, road)
+        if other is None:
+            return False
+        if len(road) < n and mark(S, other) != mark(T, end(T, x, road)):
+            return False
+        if len(road) == n and mark(S, other)[0] != ("all" if turned(road) == (side == -1) else "none"):
+            return False
+    return True

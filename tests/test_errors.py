@@ -21,6 +21,9 @@ class Errors(unittest.TestCase):
             self.assertEqual(NoText(number).number, number)
             self.assertEqual(TooMany(number).many, number)
 
+    def test_numbers_of_many_digits(self):
+        self.assertEqual(TooMany(10 ** 9000).many, 10 ** 9000)
+
     def test_no_telling_is_made_of_a_text(self):
         with self.assertRaises(NoTelling) as caught:
             raise NoTelling("why not")

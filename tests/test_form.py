@@ -55,6 +55,51 @@ class Form(unittest.TestCase):
                 self.assertFalse(isinstance(node, (ast.For, ast.While)) and node.orelse, name)
                 self.assertFalse(isinstance(node, ast.Constant) and isinstance(node.value, float), name)
 
+    def test_what_stands_beside_is(self):
+        for name, tree in self.trees():
+            for node in ast.walk(tree):
+                if isinstance(node, ast.Compare) and isinstance(node.ops[0], (ast.Is, ast.IsNot)):
+                    self.assertIsInstance(node.comparators[0], ast.Constant, (name, node.lineno))
+                    self.assertIn(node.comparators[0].value, (None, True, False), (name, node.lineno))
+
+    def test_plain_names(self):
+        for name, tree in self.trees():
+            for node in ast.walk(tree):
+                called = [getattr(node, field, None) for field in ("id", "arg", "attr", "name")]
+                for one in called:
+                    self.assertFalse(isinstance(one, str) and one.startswith("_") and one != "__init__", (name, one))
+
+    def test_what_is_walked_on_the_spot(self):
+        walkers = ("list", "tuple", "dict", "sorted", "sum", "any", "all", "enumerate", "zip")
+        for name, tree in self.trees():
+            right = [node.iter for node in ast.walk(tree) if isinstance(node, (ast.For, ast.comprehension))]
+            for node in ast.walk(tree):
+                if isinstance(node, ast.Call) and getattr(node.func, "id", "") in walkers + ("min", "max", "reversed"):
+                    right += node.args[:1]
+            for node in ast.walk(tree):
+                if isinstance(node, ast.Call) and (
+                        getattr(node.func, "id", "") in ("zip", "enumerate", "reversed", "range")
+                        or getattr(node.func, "attr", "") in ("items", "keys", "values")):
+                    self.assertIn(node, right, (name, node.lineno))
+
+    def test_sets_are_made_where_they_may_be(self):
+        for name, tree in self.trees():
+            right = [node.value for node in ast.walk(tree) if isinstance(node, ast.Assign)]
+            for node in ast.walk(tree):
+                if isinstance(node, ast.Compare):
+                    right += [node.left] + node.comparators
+                if isinstance(node, ast.Call) and getattr(node.func, "id", "") in ("sorted", "len"):
+                    right += node.args
+            for node in ast.walk(tree):
+                if isinstance(node, (ast.Set, ast.SetComp)) or getattr(getattr(node, "func", 0), "id", "") == "set":
+                    self.assertIn(node, right, (name, node.lineno))
+
+    def test_no_sign_that_python_formats_by(self):
+        for name, tree in self.trees():
+            for node in ast.walk(tree):
+                if isinstance(node, ast.Constant) and isinstance(node.value, str):
+                    self.assertNotIn("%", node.value, (name, node.lineno))
+
     def test_functions_are_short(self):
         for name, tree in self.trees():
             for node in ast.walk(tree):

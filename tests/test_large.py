@@ -5,9 +5,14 @@ import time
 import unittest
 
 from coilkind.alike import alike, are_alike, classes, is_alike_paper
+from coilkind.bounds import joined, met
+from coilkind.cuts import height, over, under
+from coilkind.errors import TooMany
 from coilkind.least import least, name_of, put_together
+from coilkind.pruning import parting, pruned
 from coilkind.roads import end_of, how_many, roads, rows_met, steps_of
 from coilkind.tellings import is_telling
+from coilkind.things import fewest, how_many_things, is_of, pieces
 from coilkind.within import is_within_paper, lies_within, within
 from samples import chain_to, names, ring, some_telling
 
@@ -106,6 +111,128 @@ class TwoHundredRows(unittest.TestCase):
             found = least(T, T[0][0])
             self.assertTrue(are_alike(T, T[0][0], found, "ka"))
             self.assertEqual(len(classes(found)), len(found))
+
+
+def beating(many, sort="box"):
+    """A ring whose part v is none at its first row, all at the others."""
+    called = names(many)
+    return tuple((name, (sort, (("v", "all" if k else "none"), ("w", called[(k + 1) % many]))))
+                 for k, name in enumerate(called)) + (("all", ("all",)), ("none", ("none",)))
+
+
+def way_ring(many):
+    """A ring of ways whose second kind is none at its first row, all at the others."""
+    called = names(many)
+    return tuple((name, ("way", called[(k + 1) % many], "all" if k else "none")) for k, name in enumerate(called)) + (
+        ("all", ("all",)), ("none", ("none",)))
+
+
+class BoundsOfTwoHundredRows(unittest.TestCase):
+    def look(self, T, x, S, y):
+        up, down = joined(T, x, S, y), met(T, x, S, y)
+        for R, z in ((T, x), (S, y)):
+            self.assertTrue(lies_within(R, z, up, "ka"))
+            self.assertTrue(lies_within(down, "ka", R, z))
+        return up, down
+
+    def test_as_many_rows_as_both_numbers_make(self):
+        T, S = beating(197), beating(198)
+        up, down = self.look(T, "raa", S, "raa")
+        self.assertEqual(len(up), 197 * 198 + 2)
+        self.assertEqual(len(down), 197 * 198 + 2)
+        # Told ones, handed in again.
+        self.assertEqual(met(up, "ka", T, "raa"), least(T, "raa"))
+        self.assertEqual(joined(S, "raa", down, "ka"), least(S, "raa"))
+        self.assertEqual(joined(up, "ka", down, "ka"), up)
+        self.assertIsNone(height(up, "ka"))
+        self.assertEqual(len(over(up, "ka", 12)), 12 + 3 - 1)
+        self.assertIsNone(fewest(up, "ka"))
+        self.assertEqual(pruned(up, "ka"), (("ka", ("none",)),))
+        self.assertIsNone(parting(up, "ka", down, "ka"))
+
+    def test_ways(self):
+        T, S = way_ring(97), way_ring(98)
+        up, down = self.look(T, "raa", S, "raa")
+        # At each road both sides are come to, as the lengths of rings aren't both even.
+        self.assertGreater(len(up), 97 * 98)
+        self.assertEqual(met(up, "ka", T, "raa"), least(T, "raa"))
+        self.assertEqual(joined(down, "ka", T, "raa"), least(T, "raa"))
+
+    def test_rings_that_are_alike(self):
+        for T, S in ((ring(199), ring(200)), (wide_ring(7, EIGHT), wide_ring(8, EIGHT)), (ways(9), ways(10)),
+                     (as_chain(), ring(200))):
+            self.assertEqual(self.look(T, T[0][0], S, S[0][0]), (least(T, T[0][0]), least(S, S[0][0])))
+
+    def test_by_chance(self):
+        chance = random.Random(11)
+        for turn in range(10):
+            T, S = [some_telling(chance, 200, list("abcde"), ("box", "pick", "way", "pick") if turn % 2 else ("box",))
+                    for k in range(2)]
+            self.look(T, T[0][0], S, S[0][0])
+
+
+class CutsAndThingsOfTwoHundredRows(unittest.TestCase):
+    def test_cuts(self):
+        chance = random.Random(12)
+        for turn in range(5):
+            T = some_telling(chance, 200, list("abcde"), ("box", "pick", "way"))
+            x = T[0][0]
+            for n in (0, 1, 5, 12):
+                self.assertTrue(lies_within(T, x, over(T, x, n), "ka"))
+                self.assertTrue(lies_within(under(T, x, n), "ka", T, x))
+                self.assertEqual(over(over(T, x, 12), "ka", n), over(T, x, n))
+        self.assertEqual(height(over(wide_ring(13, EIGHT), "raa", 12), "ka"), 12)
+
+    def test_as_rows(self):
+        self.assertEqual(under(as_chain(), "raa", 3), under(ring(1), "raa", 3))
+        self.assertEqual(joined(as_chain(), "raa", ring(2), "raa"), least(ring(1), "raa"))
+        self.assertFalse(is_of(as_chain(), "raa", ("box", ())))
+        self.assertIsNone(height(as_chain(), "raa"))
+
+    def test_things(self):
+        T = chain_to(200, ("all",), lambda name: ("pick", (("v", name), ("w", "all")))) + (("all", ("box", ())),)
+        thing = ("pick", "w", ("box", ()))
+        for turn in range(9):
+            self.assertTrue(is_of(T, "raa", thing))
+            self.assertFalse(is_of(T, "raa", ("box", (("v", thing),))))
+            self.assertFalse(is_of(T, "raa", ("pick", "w", thing)))
+            thing = ("pick", "v", thing)
+        self.assertEqual(fewest(T, "raa"), (2, ("pick", "w", ("box", ()))))
+
+    def test_things_of_sixty_rows_each(self):
+        called = names(60)
+        T, S = [tuple((name, ("pick", (("u", called[(k + 1) % many]), ("v", called[(k * 7 + 1) % many]),
+                                       ("w", "end"))))
+                      for k, name in enumerate(called[:many])) + (("end", ("box", ())),) for many in (59, 60)]
+        self.assertIsNone(parting(T, "raa", S, "raa"))
+        R = tuple((name, head if name != called[59] else ("pick", head[1][:2])) for name, head in S)
+        many, thing = parting(T, "raa", R, "raa")
+        self.assertEqual(pieces(thing), many)
+        self.assertTrue(is_of(T, "raa", thing))
+        self.assertFalse(is_of(R, "raa", thing))
+        whole = joined(T, "raa", R, "raa")
+        self.assertIsNone(parting(R, "raa", whole, "ka"))
+        self.assertEqual(parting(whole, "ka", R, "raa")[0], many)
+        self.assertEqual(pruned(whole, "ka"), whole)
+
+    def test_told_ones_with_things(self):
+        T, S = [chain_to(many, ("box", ()), lambda name: ("pick", (("v", "raa"), ("w", name)))) for many in (58, 60)]
+        whole = met(T, "raa", S, "raa")
+        self.assertIsNone(fewest(whole, "ka"))
+        whole = joined(T, "raa", S, "raa")
+        self.assertEqual(fewest(whole, "ka")[0], 58)
+        self.assertIsNone(parting(T, "raa", whole, "ka"))
+        self.assertEqual(parting(whole, "ka", S, "raa")[0], 58)
+        T, S = [chain_to(many, ("all",), lambda name: ("box", (("v", name), ("w", name)))) for many in (58, 60)]
+        with self.assertRaises(TooMany) as caught:
+            fewest(met(T, "raa", S, "raa"), "ka")
+        self.assertEqual(caught.exception.many, 2 ** 60 - 1)
+        self.assertEqual(how_many_things(met(T, "raa", S, "raa"), "ka", ["v", "w"], 10), 0)
+        T, S = beating(59, "pick"), beating(61, "pick")
+        whole = joined(T, "rab", S, "raa")
+        self.assertEqual(len(whole), 59 * 61 + 2)
+        self.assertEqual(how_many_things(whole, "ka", ["v"], 10), 2 ** 8)
+        self.assertEqual(parting(whole, "ka", S, "raa"), (2, ("pick", "v", ("box", ()))))
 
 
 class MoreThanTwoHundredRows(unittest.TestCase):
