@@ -294,3 +294,59 @@ def is_cut(T, x, n, side, S):
         if len(road) == n and mark(S, other)[0] != ("all" if turned(road) == (side == -1) else "none"):
             return False
     return True
+
+
+def filled_out(H, filling):
+    """H with the rows of a filling's kinds behind it, under names that it hasn't, and as rows in the place of holes."""
+    rows, more = [], []
+    for k, (name, head) in enumerate(H):
+        if head == ("hole",):
+            kind = filling[name]
+            called = {x: f"{k} {x}" for x, other in kind}
+            rows.append((name, ("as", called[kind[0][0]])))
+            more += [(called[x], with_names(other, called)) for x, other in kind]
+        else:
+            rows.append((name, head))
+    return tuple(rows + more)
+
+
+def with_names(head, called):
+    """A head with other names of rows."""
+    if head[0] in ("box", "pick"):
+        return head[0], tuple((word, called[x]) for word, x in head[1])
+    return (head[0],) + tuple(called[x] for x in head[1:])
+
+
+def holds(H, sayings, filling):
+    """Whether sayings hold by a filling."""
+    T = filled_out(H, filling)
+    right = within_by_rounds(T, T)
+    return all((1, row(T, a), row(T, b)) in right for a, b in sayings)
+
+
+def is_clash(H, sayings, rows):
+    """Whether rows are right ones of a clash, row by row."""
+    heads = dict(H)
+    for n, (a, b, why) in enumerate(rows):
+        if a not in heads or b not in heads or "as" in (heads[a][0], heads[b][0]):
+            return False
+        if why[0] == "said" and (a, b) not in [(row(H, x), row(H, y)) for x, y in sayings]:
+            return False
+        if why[0] == "step":
+            if why[1] not in range(n):
+                return False
+            c, d, other = rows[why[1]]
+            u, v = mark(H, c), mark(H, d)
+            if u[0] != v[0] or u[0] not in ("box", "pick") or is_bad(u, v) or why[2] not in behind(u, v):
+                return False
+            if (row(H, moves(H, c)[why[2]]), row(H, moves(H, d)[why[2]])) != (a, b):
+                return False
+        if why[0] == "through":
+            if why[1] not in range(n) or why[2] not in range(n):
+                return False
+            (c, h, other), (g, d, another) = rows[why[1]], rows[why[2]]
+            if (c, d) != (a, b) or h != g or heads[h] != ("hole",):
+                return False
+    if not rows or "hole" in (heads[rows[-1][0]][0], heads[rows[-1][1]][0]):
+        return False
+    return is_bad(mark(H, rows[-1][0]), mark(H, rows[-1][1]))

@@ -41,6 +41,8 @@ def told_row(words):
     name, sign, sort, *rest = words
     if sort in ("box", "pick"):
         return name, (sort, tuple(zip(rest[::2], rest[1::2])))
+    if sort == "hole" and not rest:
+        return name, ("hole",)
     return name, (sort, *rest) if sort in ("all", "none", "way") else ("as", sort)
 
 
@@ -83,7 +85,7 @@ def some_telling(chance, many, words, sorts=("all", "none", "way", "box", "pick"
 
 def some_head(chance, called, words, sorts):
     sort = chance.choice(sorts)
-    if sort in ("all", "none"):
+    if sort in ("all", "none", "hole"):
         return (sort,)
     if sort == "way":
         return (sort, chance.choice(called), chance.choice(called))
