@@ -32,12 +32,12 @@ def unfolded(net, meant, key):
     """The sort of what the rows of a key (side, rows) are joined or met, and by its steps the keys behind it."""
     side, rows = key
     widest, narrowest = ("all", "none") if side == 1 else ("none", "all")
-    # Joined to what is narrowest, the others stay as they are.
+    # Beside what is narrowest the others stay as they are; what is widest is of another sort, or has no steps.
     left = [row for row in rows if net.heads[row][0] != narrowest]
     sorts = sorted({net.heads[row][0] for row in left})
     if len(sorts) == 0:
         return (narrowest, {})
-    if len(sorts) > 1 or sorts[0] == widest:
+    if len(sorts) > 1:
         return (widest, {})
     moves = {}
     for step in steps_together(net, side, sorts[0], left):

@@ -101,9 +101,9 @@ def follow_steps(net, following, at):
 
 
 def follow_through(net, following, at):
-    """Takes in the pairs that the pair numbered at and one that isn't behind it make by a hole between them."""
+    """Takes in the pairs that the pair numbered at and one ahead of it make by a hole between them."""
     a, b = following.pairs[at]
-    for k in range(at + 1):
+    for k in range(at):
         c, d = following.pairs[k]
         if b == c and is_hole(net, b):
             following.take((a, d), ("through", at, k))

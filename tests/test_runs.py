@@ -112,6 +112,10 @@ class Steps(Checked):
         self.stuck(split(UNIT, cons=("x", UNIT)))
         self.stuck(split(box(nil=UNIT), nil=("x", UNIT)))
         self.stuck(split(SAME, nil=("x", UNIT)))
+        # Words that stand elsewhere in what is no pick.
+        self.stuck(split(fn("nil", "a", get("nil")), nil=("x", UNIT)))
+        self.stuck(part(pick("w", UNIT), "w"))
+        self.stuck(part(fn("w", "a", get("w")), "w"))
 
     def test_stuck_behind_some_steps(self):
         maker = box(v=ONCE, w=call(hold(UNIT, "a"), hold(NIL, "a")))

@@ -441,6 +441,16 @@ class IsClash(Checked):
         for j, k in itertools.product(range(-5, 6), repeat=2):
             self.look(self.ROWS[:3] + [("p", "e", ("through", j, k))], (j, k) == (2, 1))
 
+    def test_rows_that_follow_from_themselves(self):
+        bad = ("q", "e", ("said",))
+        sayings = [("q", "e"), ("e", "e"), ("h", "h")]
+        for row in (("e", "e", ("step", 0, ("part", "v"))), ("h", "h", ("through", 0, 0))):
+            self.look([row, bad], False, sayings)
+            self.look([row[:2] + (("said",),), bad], True, sayings)
+        for row in (("e", "e", ("step", 1, ("part", "v"))), ("h", "h", ("through", 1, 1)), ("h", "h", ("through", 0, 1))):
+            self.look([row[:2] + (("said",),), row, bad], False, sayings)
+            self.look([row, row[:2] + (("said",),), bad], False, sayings)
+
     def test_wrong_steps(self):
         for step in (("part", "w"), ("part", "u"), ("case", "v"), ("from",), ("to",), ("part", "")):
             self.look(self.ROWS[:2] + [("p", "h", ("step", 0, step))] + self.ROWS[3:], False)
